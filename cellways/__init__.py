@@ -1,0 +1,1 @@
+"""Cellways: ways over floors of walls and heights."""

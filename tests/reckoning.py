@@ -1,0 +1,101 @@
+"""What the tests share: a second reckoning, written from the document alone, and things to hand in."""
+
+from itertools import product
+
+BIG = 10 ** 5000
+
+
+def nested(depth, as_tuple):
+    thing = 0
+    for _ in range(depth):
+        thing = (thing,) if as_tuple else [thing]
+    return thing
+
+
+# Of every kind that a function of "any thing" may get; none is a floor, a walker, a way or a paper.
+THINGS = [
+    0, 1, -1, 7, BIG, -BIG, True, False, None, "", "0", "#", "00", "way", "0,0",
+    [], (), [[]], [()], ([],), ((),), [None], (None,), [True], (True,), [0], (0,), [""], ("",), ["0"],
+    [0, 0], (0, 0), [[0, 0]], [(0,)], [(0, 0, 0)], [(0, "0")], [("0", 0)], [(None, None)], [((0, 0),)],
+    [(True, False)], [(False, False)], [(0, False)], [(False, 0)], [([0], 0)], [((0, 0), (0, 0))],
+    [(BIG, 0)], [(0, BIG)], [(-BIG, 0)], [(-1, 0)], [(0, -1)], ["00"], [0, (0, 0)], [(0, 0), 0],
+    [(0, 0), None], [(0, 0), [0, 0]], ((0, 0),), ((0, 0), (0, 1)), [[0, 0], [0, 1]], [[(0, 0)]],
+    (False,), (False, 0), (0, 0, 0), (None, 0, 0), ("", 0, 0), (False, "0", 0), (False, 0, None),
+    (False, [0], 0), (False, 0, (0,)), [False, 0, 0], ((False, 0, 0),), (False, BIG, 0), (False, 0, -BIG),
+    nested(10, False), nested(10, True), nested(11, False), nested(11, True),
+]
+
+WALKERS = [(slants, climb, up) for slants in (False, True) for climb in (0, 1, 3, 9) for up in (0, 1, 3)]
+
+
+def heights_of(floor):
+    return {
+        (row, column): "0123456789".index(sign)
+        for row, signs in enumerate(floor)
+        for column, sign in enumerate(signs)
+        if sign != "#"
+    }
+
+
+def all_steps(floor, walker):
+    """A dict from (spot, spot) to the cost, for all steps of a walker."""
+    slants, climb, up = walker
+    heights = heights_of(floor)
+    steps = {}
+    for one, other in product(heights, heights):
+        far = (one[0] - other[0]) ** 2 + (one[1] - other[1]) ** 2
+        more = heights[other] - heights[one]
+        corners = [(one[0], other[1]), (other[0], one[1])]
+        straight = far == 1
+        slanting = far == 2 and slants and all(corner in heights for corner in corners)
+        if (straight or slanting) and -climb <= more <= climb:
+            steps[one, other] = (2 if straight else 3) + (up * more if more > 0 else 0)
+    return steps
+
+
+def all_costs(floor, walker):
+    """A dict from (start, goal) to the least cost: each step is tried until nothing gets cheaper."""
+    steps = all_steps(floor, walker)
+    costs = {(spot, spot): 0 for spot in heights_of(floor)}
+    changed = True
+    while changed:
+        changed = False
+        for (start, middle), cost in list(costs.items()):
+            for (one, other), more in steps.items():
+                if one == middle and cost + more < costs.get((start, other), cost + more + 1):
+                    costs[start, other] = cost + more
+                    changed = True
+    return costs
+
+
+def fulfils_paper(floor, walker, goal, entries):
+    """Whether right entries (open spots, numbers from 0 on, rising) are a paper, by the words of 2.2."""
+    numbers = dict(entries)
+    if numbers.get(goal) != 0:
+        return False
+    for (one, other), cost in all_steps(floor, walker).items():
+        if other in numbers and not (one in numbers and numbers[one] <= cost + numbers[other]):
+            return False
+    return True
+
+
+def scattered_floors(how_many, most_rows, most_columns, signs):
+    """Floors that look chosen at random, the same ones in each run."""
+    state = 12345
+
+    def draw(bound):
+        nonlocal state
+        state = (state * 6364136223846793005 + 1442695040888963407) % 2 ** 64
+        return (state >> 33) % bound
+
+    floors = []
+    for _ in range(how_many):
+        rows, columns = 1 + draw(most_rows), 1 + draw(most_columns)
+        floors.append(tuple("".join(signs[draw(len(signs))] for _ in range(columns)) for _ in range(rows)))
+    return floors
+
+
+def every_floor(rows, columns, signs):
+    """All floors of this size over these signs."""
+    lines = ["".join(line) for line in product(signs, repeat=columns)]
+    return list(product(lines, repeat=rows))
