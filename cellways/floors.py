@@ -16,10 +16,15 @@ def is_whole(thing):
     return isinstance(thing, int) and not isinstance(thing, bool)
 
 
+# The length is asked for, because "in" finds "" and "01" among the signs, too.
+def is_sign(thing):
+    return isinstance(thing, str) and len(thing) == 1 and thing in SIGNS
+
+
 def is_row(thing):
     if not isinstance(thing, str) or not 1 <= len(thing) <= LONGEST:
         return False
-    return all([sign in SIGNS for sign in thing])
+    return all([is_sign(sign) for sign in thing])
 
 
 def is_floor(thing):
@@ -55,6 +60,18 @@ def is_open(floor, thing):
 def need_open(floor, spot):
     if not is_open(floor, spot):
         raise NoSpot("the spot is not on the floor or a wall")
+
+
+def need_on_floor(floor, spot):
+    if not (is_spot(spot) and is_on_floor(floor, spot)):
+        raise NoSpot("the spot is not on the floor")
+
+
+# Of a spot that is on the floor.
+def with_sign(floor, spot, sign):
+    signs = floor[spot[0]]
+    changed = signs[:spot[1]] + sign + signs[spot[1] + 1:]
+    return floor[:spot[0]] + (changed,) + floor[spot[0] + 1:]
 
 
 def open_spots(floor):
@@ -130,7 +147,11 @@ def costs_along(floor, walker, spots):
     return [step_cost(floor, walker, one, other) for one, other in zip(spots, spots[1:])]
 
 
-def cost_of(floor, walker, way):
-    if not is_way(floor, walker, way):
+def need_way(floor, walker, thing):
+    if not is_way(floor, walker, thing):
         raise NoWay("this is no way of the walker over the floor")
+
+
+def cost_of(floor, walker, way):
+    need_way(floor, walker, way)
     return sum(costs_along(floor, walker, way))

@@ -40,16 +40,21 @@ def distances_to(floor, walker, goal):
     return rising_costs(spread_to(floor, walker, goal))
 
 
+# From one that is reached back to the one from which it all was spread.
+def traced(reached, place):
+    trace = [place]
+    while reached[trace[-1]][1] is not None:
+        trace.append(reached[trace[-1]][1])
+    return trace
+
+
 # Spread from the goal, so that each spot knows the one that comes behind it on the way.
 def least_way(floor, walker, start, goal):
     need_open(floor, start)
     reached = spread_to(floor, walker, goal)
     if start not in reached:
         return None
-    way = [start]
-    while way[-1] != goal:
-        way.append(reached[way[-1]][1])
-    return (reached[start][0], way)
+    return (reached[start][0], traced(reached, start))
 
 
 def is_entry(floor, thing):

@@ -68,6 +68,58 @@ def all_costs(floor, walker):
     return costs
 
 
+def least_ways(floor, walker, start, goal, costs):
+    """All ways from the start to the goal that cost least, by trying each step; costs are those of all_costs."""
+    steps = all_steps(floor, walker)
+    ended, begun = [], [[start]]
+    while begun:
+        way = begun.pop()
+        if way[-1] == goal:
+            ended.append(way)
+        for (one, other), cost in steps.items():
+            if one == way[-1] and (other, goal) in costs and costs[one, goal] == cost + costs[other, goal]:
+                begun.append(way + [other])
+    return ended
+
+
+def moves_of(way):
+    """By how many rows and columns each step of a way leads on."""
+    return [(other[0] - one[0], other[1] - one[1]) for one, other in zip(way, way[1:])]
+
+
+def turns_of(way):
+    moves = moves_of(way)
+    return sum(one != other for one, other in zip(moves, moves[1:]))
+
+
+def all_rooms(floor, walker):
+    """Each open spot is a room at first; each step makes one of two."""
+    room_of = {spot: [spot] for spot in heights_of(floor)}
+    for one, other in all_steps(floor, walker):
+        if room_of[one] is not room_of[other]:
+            joined = room_of[one] + room_of[other]
+            for spot in joined:
+                room_of[spot] = joined
+    return sorted(sorted(room) for spot, room in room_of.items() if spot == min(room))
+
+
+def put_on(floor, spot, sign):
+    rows = [list(row) for row in floor]
+    rows[spot[0]][spot[1]] = sign
+    return tuple("".join(row) for row in rows)
+
+
+def all_narrow(floor, walker):
+    narrow = []
+    for room in all_rooms(floor, walker):
+        for spot in room:
+            others = [other for other in room if other != spot]
+            walled = all_rooms(put_on(floor, spot, "#"), walker)
+            if others and others not in walled:
+                narrow.append(spot)
+    return sorted(narrow)
+
+
 def fulfils_paper(floor, walker, goal, entries):
     """Whether right entries (open spots, numbers from 0 on, rising) are a paper, by the words of 2.2."""
     numbers = dict(entries)
@@ -79,15 +131,19 @@ def fulfils_paper(floor, walker, goal, entries):
     return True
 
 
-def scattered_floors(how_many, most_rows, most_columns, signs):
-    """Floors that look chosen at random, the same ones in each run."""
-    state = 12345
-
+def drawer(state):
+    """A function that draws numbers below a bound, which look chosen at random, the same ones in each run."""
     def draw(bound):
         nonlocal state
         state = (state * 6364136223846793005 + 1442695040888963407) % 2 ** 64
         return (state >> 33) % bound
 
+    return draw
+
+
+def scattered_floors(how_many, most_rows, most_columns, signs):
+    """Floors that look chosen at random, the same ones in each run."""
+    draw = drawer(12345)
     floors = []
     for _ in range(how_many):
         rows, columns = 1 + draw(most_rows), 1 + draw(most_columns)

@@ -18,6 +18,22 @@ class Case(unittest.TestCase):
             function(*arguments)
         self.assertIs(type(taken.exception), refusal)
 
+    def assertToldAnew(self, tell):
+        kept = deepcopy(tell())
+        spoil(tell())
+        spoil(tell())
+        self.assertEqual(tell(), kept)
+
+
+def spoil(thing):
+    """Changes each list in what was told."""
+    if isinstance(thing, (list, tuple)):
+        for part in thing:
+            spoil(part)
+    if isinstance(thing, list):
+        thing.append("spoiled")
+        thing.reverse()
+
 
 class Floors(Case):
     def test_right_floors(self):
@@ -275,13 +291,7 @@ class Handed(Case):
     def test_told_lists_are_new(self):
         floor = ("01", "00")
         for tell in [lambda: open_spots(floor), lambda: steps_from(floor, FREE, (0, 0))]:
-            first = tell()
-            kept = deepcopy(first)
-            second = tell()
-            self.assertIsNot(first, second)
-            first.clear()
-            second.append(None)
-            self.assertEqual(tell(), kept)
+            self.assertToldAnew(tell)
 
     def test_what_is_handed_in_stays(self):
         floor = ("01", "00")

@@ -29,6 +29,9 @@ compile copyright credits delattr dir eval exec exit gc getattr globals hasattr 
 methodcaller os quit setattr super type vars sys format format_map""".split()
 
 
+KINDS = (str, int, list, dict, set, frozenset, bytes, tuple)
+
+
 def files():
     return sorted(path for path in PACKAGE.rglob("*") if "__pycache__" not in path.parts)
 
@@ -45,7 +48,7 @@ def bound_names():
     names = [(name, node.id) for name, node in nodes(ast.Name) if isinstance(node.ctx, ast.Store)]
     names += [(name, node.arg) for name, node in nodes(ast.arg)]
     names += [(name, node.name) for name, node in nodes((ast.FunctionDef, ast.ClassDef))]
-    return names
+    return [(name, bound) for name, bound in names if bound != "__init__"]
 
 
 class Form(unittest.TestCase):
@@ -88,7 +91,7 @@ class Form(unittest.TestCase):
 
     def test_names(self):
         for name, bound in bound_names():
-            self.assertFalse(bound.startswith("_") and bound != "__init__", (name, bound))
+            self.assertFalse(bound.startswith("_"), (name, bound))
             self.assertFalse(hasattr(builtins, bound), (name, bound))
             self.assertNotIn(bound, NO_NAMES, name)
         for name, node in nodes(ast.Name):
@@ -100,6 +103,23 @@ class Form(unittest.TestCase):
         for name, node in nodes(ast.Call):
             if isinstance(node.func, ast.Attribute):
                 self.assertIn(node.func.attr, METHODS + own, (name, node.lineno))
+
+    def test_classes(self):
+        for name, node in nodes(ast.ClassDef):
+            self.assertLessEqual(len(node.bases), 1, (name, node.name))
+            self.assertEqual((node.keywords, node.decorator_list), ([], []))
+            for part in node.body:
+                self.assertIn(type(part), (ast.FunctionDef, ast.Pass, ast.Expr), (name, part.lineno))
+            methods = [part.name for part in node.body if isinstance(part, ast.FunctionDef)]
+            self.assertEqual(len(methods), len(set(methods)), (name, node.name))
+
+    def test_values_of_objects(self):
+        methods = [part.name for _, node in nodes(ast.ClassDef) for part in node.body if hasattr(part, "name")]
+        for name, node in nodes(ast.Attribute):
+            if isinstance(node.ctx, ast.Store):
+                self.assertNotIn(node.attr, methods, (name, node.lineno))
+                self.assertFalse(any(hasattr(kind, node.attr) for kind in KINDS), (name, node.lineno))
+                self.assertFalse(node.attr.startswith("_"), (name, node.lineno))
 
     def test_is_stands_beside_none_and_truths_alone(self):
         for name, node in nodes(ast.Compare):

@@ -102,13 +102,7 @@ class LeastWays(Case):
             lambda: least_way(floor, FREE, (0, 0), (0, 0))[1],
         ]
         for tell in tells:
-            first = tell()
-            kept = deepcopy(first)
-            second = tell()
-            self.assertIsNot(first, second)
-            first.clear()
-            second.append(None)
-            self.assertEqual(tell(), kept)
+            self.assertToldAnew(tell)
 
 
 class Papers(Case):
