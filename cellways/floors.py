@@ -135,12 +135,22 @@ def steps_to(floor, walker, spot):
     return [(step[0], step_cost(floor, walker, step[0], spot)) for step in steps_from(floor, walker, spot)]
 
 
-def is_way(floor, walker, thing):
+# For each open spot all those to which a step leads from it: for many looks at one floor.
+def steps_over(floor, walker):
+    onward = {}
+    for spot in open_spots(floor):
+        onward[spot] = [step[0] for step in steps_from(floor, walker, spot)]
+    return onward
+
+
+def is_list_of_open_spots(floor, thing):
     if not isinstance(thing, list) or len(thing) == 0:
         return False
-    if not all([is_open(floor, spot) for spot in thing]):
-        return False
-    return None not in costs_along(floor, walker, thing)
+    return all([is_open(floor, spot) for spot in thing])
+
+
+def is_way(floor, walker, thing):
+    return is_list_of_open_spots(floor, thing) and None not in costs_along(floor, walker, thing)
 
 
 def costs_along(floor, walker, spots):

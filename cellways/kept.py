@@ -28,7 +28,7 @@ class Keeper:
     # Found only when it is asked for, so that many signs can be put one behind the other at no cost.
     def found(self):
         if self.reached is None:
-            self.reached = spread_to(self.floor, self.walker, self.goal)
+            self.reached = spread_to(self.floor, self.walker, [self.goal])
         return self.reached
 
     def distance(self, spot):

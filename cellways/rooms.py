@@ -1,6 +1,6 @@
 """Rooms, and the narrow spots that hold them together."""
 
-from cellways.floors import open_spots, steps_from
+from cellways.floors import open_spots, steps_over
 from cellways.ways import spread_from
 
 
@@ -26,12 +26,12 @@ def needs_open(one, other, spot):
     return spot in (one, other, (one[0], other[1]), (other[0], one[1]))
 
 
-def reached_past(beside, start, wall):
+def reached_past(onward, start, wall):
     reached = {start: True}
     waiting = [start]
     while len(waiting) > 0:
         one = waiting.pop()
-        for other in beside[one]:
+        for other in onward[one]:
             if other not in reached and not needs_open(one, other, wall):
                 reached[other] = True
                 waiting.append(other)
@@ -39,16 +39,14 @@ def reached_past(beside, start, wall):
 
 
 # A wall opens no new steps, so what is reached past it lies within the room.
-def is_narrow(beside, room, spot):
+def is_narrow(onward, room, spot):
     others = [other for other in room if other != spot]
-    return len(others) > 0 and len(reached_past(beside, others[0], spot)) < len(others)
+    return len(others) > 0 and len(reached_past(onward, others[0], spot)) < len(others)
 
 
 def narrow_spots(floor, walker):
-    beside = {}
-    for spot in open_spots(floor):
-        beside[spot] = [step[0] for step in steps_from(floor, walker, spot)]
+    onward = steps_over(floor, walker)
     narrow = []
     for room in rooms(floor, walker):
-        narrow.extend([spot for spot in room if is_narrow(beside, room, spot)])
+        narrow.extend([spot for spot in room if is_narrow(onward, room, spot)])
     return sorted(narrow)

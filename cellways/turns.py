@@ -73,10 +73,10 @@ def headings_before(floor, walker, reached, heading):
 # Spread once more over the least ways alone, where each turn is all that costs.
 def straightest(floor, walker, start, goal):
     need_open(floor, start)
-    reached = spread_to(floor, walker, goal)
+    reached = spread_to(floor, walker, [goal])
     if start not in reached:
         return None
-    headings = spread((goal, None), lambda heading: headings_before(floor, walker, reached, heading))
+    headings = spread([(goal, None)], lambda heading: headings_before(floor, walker, reached, heading))
     leaving = min([heading for heading in headings if heading[0] == start], key=lambda heading: headings[heading][0])
     way = [heading[0] for heading in traced(headings, leaving)]
     return (reached[start][0], headings[leaving][0], way)

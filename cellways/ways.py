@@ -3,11 +3,13 @@
 from cellways.floors import is_open, is_whole, need_open, steps_from, steps_to
 
 
-# Told for each spot that is reached: the least cost, and the spot from which it was reached.
+# Told for each spot that is reached: the least cost from any of the starts, and the spot from which it was reached.
 # The cheapest spot that waits can't become cheaper, since no step costs less than 0.
-def spread(start, steps):
+def spread(starts, steps):
     reached = {}
-    waiting = {start: (0, None)}
+    waiting = {}
+    for start in starts:
+        waiting[start] = (0, None)
     while len(waiting) > 0:
         spot = min(waiting, key=lambda waiter: waiting[waiter][0])
         reached[spot] = waiting.pop(spot)
@@ -20,12 +22,13 @@ def spread(start, steps):
 
 def spread_from(floor, walker, start):
     need_open(floor, start)
-    return spread(start, lambda spot: steps_from(floor, walker, spot))
+    return spread([start], lambda spot: steps_from(floor, walker, spot))
 
 
-def spread_to(floor, walker, goal):
-    need_open(floor, goal)
-    return spread(goal, lambda spot: steps_to(floor, walker, spot))
+def spread_to(floor, walker, goals):
+    for goal in goals:
+        need_open(floor, goal)
+    return spread(goals, lambda spot: steps_to(floor, walker, spot))
 
 
 def rising_costs(reached):
@@ -37,10 +40,10 @@ def distances_from(floor, walker, start):
 
 
 def distances_to(floor, walker, goal):
-    return rising_costs(spread_to(floor, walker, goal))
+    return rising_costs(spread_to(floor, walker, [goal]))
 
 
-# From one that is reached back to the one from which it all was spread.
+# From one that is reached back to the start from which it was.
 def traced(reached, place):
     trace = [place]
     while reached[trace[-1]][1] is not None:
@@ -51,7 +54,7 @@ def traced(reached, place):
 # Spread from the goal, so that each spot knows the one that comes behind it on the way.
 def least_way(floor, walker, start, goal):
     need_open(floor, start)
-    reached = spread_to(floor, walker, goal)
+    reached = spread_to(floor, walker, [goal])
     if start not in reached:
         return None
     return (reached[start][0], traced(reached, start))

@@ -155,3 +155,74 @@ def every_floor(rows, columns, signs):
     """All floors of this size over these signs."""
     lines = ["".join(line) for line in product(signs, repeat=columns)]
     return list(product(lines, repeat=rows))
+
+
+def fields_of(floor, walker, goals, costs):
+    """A dict from each spot with a way to a goal to what it costs and the least spot to which it leads."""
+    steps = all_steps(floor, walker)
+    told = {}
+    for spot in heights_of(floor):
+        ends = [costs[spot, goal] for goal in goals if (spot, goal) in costs]
+        if ends:
+            onward = [
+                other for (one, other), cost in steps.items() if one == spot
+                and any(cost + costs[other, goal] == min(ends) for goal in goals if (other, goal) in costs)
+            ]
+            told[spot] = (min(ends), min(onward) if spot not in goals else None)
+    return told
+
+
+def are_apart(one, other):
+    """Whether two ways in time keep apart, by the words of 7.1, long behind both their ends."""
+    how_long = max(len(one), len(other)) + 3
+    one = one + [one[-1]] * (how_long - len(one))
+    other = other + [other[-1]] * (how_long - len(other))
+    if any(here == there for here, there in zip(one, other)):
+        return False
+    moves = zip(zip(one, one[1:]), zip(other, other[1:]))
+    return not any(here == (there[1], there[0]) for here, there in moves)
+
+
+def ways_in_time(floor, walker, start, last):
+    """All ways in time from the start that end at this time."""
+    steps = all_steps(floor, walker)
+    ways = [[start]]
+    for _ in range(last):
+        ways = [
+            way + [spot] for way in ways for spot in heights_of(floor) if spot == way[-1] or (way[-1], spot) in steps
+        ]
+    return ways
+
+
+def earliest_time(floor, walker, start, goal, ahead):
+    """The first time from which a walker can stay at its goal, apart from those ahead of it, or None."""
+    steps = all_steps(floor, walker)
+    longest = max([len(way) for way in ahead], default=1)
+    horizon = longest + 2 * len(heights_of(floor)) + 2
+    ahead = [way + [way[-1]] * (horizon + 2 - len(way)) for way in ahead]
+    spots = {start} - {way[0] for way in ahead}
+    for time in range(horizon):
+        if goal in spots and not any(goal in way[time:] for way in ahead):
+            return time
+        spots = {
+            other for spot in spots for other in heights_of(floor)
+            if (spot == other or (spot, other) in steps)
+            and not any(way[time + 1] == other or way[time:time + 2] == [other, spot] for way in ahead)
+        }
+    return None
+
+
+def clearance_of(floor, spot):
+    heights = heights_of(floor)
+    rows = 0
+    while all((spot[0] + row, spot[1] + column) in heights for row in range(rows + 1) for column in range(rows + 1)):
+        rows += 1
+    return rows
+
+
+def all_shrunk(floor, size):
+    shrunk = floor
+    for spot in heights_of(floor):
+        if clearance_of(floor, spot) < size:
+            shrunk = put_on(shrunk, spot, "#")
+    return shrunk
