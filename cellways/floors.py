@@ -1,6 +1,6 @@
 """Floors, walkers, the steps from spot to spot, and ways."""
 
-from cellways.errors import NoSpot, NoWay
+from cellways.errors import NoSign, NoSpot, NoWay
 
 WALL = "#"
 SIGNS = "#0123456789"
@@ -65,6 +65,11 @@ def need_open(floor, spot):
 def need_on_floor(floor, spot):
     if not (is_spot(spot) and is_on_floor(floor, spot)):
         raise NoSpot("the spot is not on the floor")
+
+
+def need_sign(sign):
+    if not is_sign(sign):
+        raise NoSign("this is no sign of a floor")
 
 
 # Of a spot that is on the floor.

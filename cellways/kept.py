@@ -1,7 +1,7 @@
 """Ways to a goal, kept while walls and heights change."""
 
 from cellways.errors import NoSign
-from cellways.floors import WALL, is_sign, need_on_floor, need_open, open_spots, with_sign
+from cellways.floors import WALL, need_on_floor, need_open, need_sign, open_spots, with_sign
 from cellways.ways import spread_to, traced
 
 
@@ -15,8 +15,7 @@ class Keeper:
 
     def put(self, spot, sign):
         need_on_floor(self.floor, spot)
-        if not is_sign(sign):
-            raise NoSign("this is no sign of a floor")
+        need_sign(sign)
         if sign == WALL and spot == self.goal:
             raise NoSign("the goal can't be a wall")
         self.floor = with_sign(self.floor, spot, sign)

@@ -226,3 +226,24 @@ def all_shrunk(floor, size):
         if clearance_of(floor, spot) < size:
             shrunk = put_on(shrunk, spot, "#")
     return shrunk
+
+
+def are_in_one_block(one, other, size):
+    return (one[0] // size, one[1] // size) == (other[0] // size, other[1] // size)
+
+
+def all_gates(floor, walker, size):
+    return sorted({one for one, other in all_steps(floor, walker) if not are_in_one_block(one, other, size)})
+
+
+def all_hops(floor, walker, size):
+    """A dict from (spot, spot) to the cost, for all hops: within a block as if all about it were walls."""
+    steps = all_steps(floor, walker)
+    told = {pair: cost for pair, cost in steps.items() if not are_in_one_block(*pair, size)}
+    for corner in product(range(0, len(floor), size), range(0, len(floor[0]), size)):
+        alone = floor
+        for spot in heights_of(floor):
+            if not are_in_one_block(spot, corner, size):
+                alone = put_on(alone, spot, "#")
+        told.update({pair: cost for pair, cost in all_costs(alone, walker).items() if pair[0] != pair[1]})
+    return told

@@ -44,6 +44,20 @@ def nodes(kind):
     return [(name, node) for name, tree in trees() for node in ast.walk(tree) if isinstance(node, kind)]
 
 
+def called(node):
+    """The name by which a function or a method is called."""
+    return node.func.attr if isinstance(node.func, ast.Attribute) else getattr(node.func, "id", None)
+
+
+def place(node):
+    return (node.lineno, node.col_offset, node.end_lineno, node.end_col_offset)
+
+
+def first_arguments(names):
+    """Where the first thing stands that is handed to one of these functions."""
+    return [(name, place(node.args[0])) for name, node in nodes(ast.Call) if called(node) in names and node.args]
+
+
 def bound_names():
     names = [(name, node.id) for name, node in nodes(ast.Name) if isinstance(node.ctx, ast.Store)]
     names += [(name, node.arg) for name, node in nodes(ast.arg)]
@@ -120,6 +134,37 @@ class Form(unittest.TestCase):
                 self.assertNotIn(node.attr, methods, (name, node.lineno))
                 self.assertFalse(any(hasattr(kind, node.attr) for kind in KINDS), (name, node.lineno))
                 self.assertFalse(node.attr.startswith("_"), (name, node.lineno))
+
+    def test_walked_at_once(self):
+        walked = ["zip", "enumerate", "reversed", "range", "items", "keys", "values"]
+        takers = ["list", "tuple", "dict", "sorted", "sum", "any", "all", "enumerate", "zip", "min", "max", "join"]
+        walks = [(name, place(node.iter)) for name, node in nodes((ast.For, ast.comprehension))]
+        for name, node in nodes(ast.Call):
+            if called(node) in walked:
+                self.assertIn((name, place(node)), walks + first_arguments(takers), (name, node.lineno))
+
+    def test_sets_stand_within_sorted_or_len_alone(self):
+        for name, node in nodes(ast.Call):
+            if called(node) in ["set", "frozenset"]:
+                self.assertIn((name, place(node)), first_arguments(["sorted", "len"]), (name, node.lineno))
+
+    def test_locals_are_not_called_like_imports_or_classes(self):
+        for name, tree in trees():
+            taken = [alias.name for node in tree.body if isinstance(node, ast.ImportFrom) for alias in node.names]
+            taken += [node.name for node in tree.body if isinstance(node, ast.ClassDef)]
+            bound = [node.arg for node in ast.walk(tree) if isinstance(node, ast.arg)]
+            names = [node for node in ast.walk(tree) if isinstance(node, ast.Name)]
+            bound += [node.id for node in names if isinstance(node.ctx, ast.Store)]
+            self.assertEqual([other for other in bound if other in taken], [], name)
+
+    def test_no_two_files_draw_from_one_another(self):
+        drawn = {name[:-3]: [node.module.split(".")[1] for node in tree.body if isinstance(node, ast.ImportFrom)]
+                 for name, tree in trees()}
+        placed = []
+        while len(placed) < len(drawn):
+            free = [name for name in drawn if name not in placed and all(other in placed for other in drawn[name])]
+            self.assertNotEqual(free, [], drawn)
+            placed += free
 
     def test_is_stands_beside_none_and_truths_alone(self):
         for name, node in nodes(ast.Compare):
